@@ -3,39 +3,41 @@
 Each takes the record and the whole numbers, or the one list, that it's given; its answer is a list of numbers.
 """
 
-from chestkeys.companies import forbidden_companies, key_count, least_companies, rule_locks
+from chestkeys.checks import check_bytes, check_company, check_how_many_events, check_locks, check_officer
+from chestkeys.checks import check_sought, check_weights
+from chestkeys.companies import allowed_by_locks, forbidden_companies, key_count, least_companies, rule_locks
 from chestkeys.companies import swing_count, where_otherwise
-from chestkeys.reading import MOST_EVENTS, read_file, read_one_event
+from chestkeys.events import hall_behind, those_who_act, unlockings
+from chestkeys.influence import are_alike, idle_officers, least_hindering, officer_power
+from chestkeys.reading import read_file, read_one_event, read_one_rule
 from chestkeys.record import new_record, one_text
-from chestkeys.refusals import Fault, NoCall, NotThere, OutOfRange, Refusal, WrongBytes, WrongList
-
-MOST_BYTES = 2000
-LAST_BYTE = 255
-MOST_LOCKS = 100
-LAST_COMPANY = 63
-
-
-def check_range(number, last):
-    """A whole number is from 0 to the last one."""
-    if not 0 <= number <= last:
-        raise OutOfRange()
-
-
-def check_bytes(text):
-    """A text is bytes, and not too many."""
-    if len(text) > MOST_BYTES or not all([0 <= number <= LAST_BYTE for number in text]):
-        raise WrongBytes()
-
-
-def check_locks(locks, companies):
-    """Locks are companies that there are, and not too many."""
-    if len(locks) > MOST_LOCKS or not all([0 <= lock < companies for lock in locks]):
-        raise WrongList()
+from chestkeys.refusals import Fault, HasEvents, NoCall, Refusal
+from chestkeys.trades import first_trade
+from chestkeys.weights import first_weights, quota_of, tell_rule
 
 
 def counted(numbers):
     """A list as it's answered: how many, then these."""
     return [len(numbers)] + numbers
+
+
+def yes_or_no(holds):
+    """1 if it holds, else 0."""
+    return 1 if holds else 0
+
+
+def same_or_first_otherwise(record, other):
+    """1 if the other allows what the record's rule does; else 0 and the first company for which it's otherwise."""
+    otherwise = where_otherwise(record.rule.allowed, other)
+    return [0, otherwise[0]] if len(otherwise) > 0 else [1]
+
+
+def state_behind(record, events):
+    """Who's there, dead and acts behind these events, whether these may unlock, and how often it was unlocked."""
+    hall = hall_behind(events)
+    acting = those_who_act(hall)
+    may = yes_or_no(record.rule.allowed[acting])
+    return [hall.there, hall.dead, acting, may, len(unlockings(events))]
 
 
 def record_least(record):
@@ -91,9 +93,7 @@ def answer_event(record, given):
 def answer_undo(record, given):
     """Call 5."""
     kept = given[0]
-    check_range(kept, MOST_EVENTS)
-    if kept > len(record.events):
-        raise NotThere()
+    check_how_many_events(kept, record)
     record.events = record.events[:kept]
     return [kept]
 
@@ -107,10 +107,8 @@ def answer_told(record, given):
 def answer_may(record, given):
     """Call 7."""
     company = given[0]
-    check_range(company, LAST_COMPANY)
-    if company >= len(record.rule.allowed):
-        raise NotThere()
-    return [1 if record.rule.allowed[company] else 0]
+    check_company(company, record)
+    return [yes_or_no(record.rule.allowed[company])]
 
 
 def answer_least(record, given):
@@ -136,9 +134,8 @@ def answer_keys(record, given):
 
 def answer_scheme(record, given):
     """Call 12."""
-    check_locks(given, len(record.rule.allowed))
-    otherwise = where_otherwise(record.rule.allowed, given)
-    return [0, otherwise[0]] if len(otherwise) > 0 else [1]
+    check_locks(given, record)
+    return same_or_first_otherwise(record, allowed_by_locks(given, len(record.names)))
 
 
 def answer_swings(record, given):
@@ -146,10 +143,104 @@ def answer_swings(record, given):
     return counted([swing_count(record.rule.allowed, officer) for officer in range(len(record.names))])
 
 
+def answer_power(record, given):
+    """Call 14."""
+    officers = len(record.names)
+    answered = [officers]
+    for officer in range(officers):
+        answered.extend(officer_power(record.rule.allowed, officers, officer))
+    return answered
+
+
+def answer_idle(record, given):
+    """Call 15."""
+    return counted(idle_officers(record.rule.allowed, len(record.names)))
+
+
+def answer_alike(record, given):
+    """Call 16."""
+    check_officer(given[0], record)
+    check_officer(given[1], record)
+    return [yes_or_no(are_alike(record.rule.allowed, given[0], given[1]))]
+
+
+def answer_hinder(record, given):
+    """Call 17."""
+    return counted(least_hindering(record.rule.allowed, len(record.names)))
+
+
+def answer_without(record, given):
+    """Call 18."""
+    left_out = given[0]
+    check_company(left_out, record)
+    return counted([company for company in record_least(record) if company & left_out == 0])
+
+
+def answer_weights(record, given):
+    """Call 19."""
+    most = given[0]
+    check_sought(most)
+    least = record_least(record)
+    weights = first_weights(least, record_forbidden(record), len(record.names), most)
+    if weights is None:
+        return [0]
+    return [1, quota_of(weights, least)] + counted(weights)
+
+
+def answer_weigh(record, given):
+    """Call 20."""
+    check_weights(given, record)
+    least = record_least(record)
+    if not tell_rule(given, least, record_forbidden(record)):
+        return [0]
+    return [1, quota_of(given, least)]
+
+
+def answer_trade(record, given):
+    """Call 21."""
+    trade = first_trade(record.rule.allowed)
+    return [1] + trade if len(trade) > 0 else [0]
+
+
+def answer_rule(record, given):
+    """Call 22."""
+    check_bytes(given)
+    rule = read_one_rule(given, record.names)
+    if len(record.events) > 0:
+        raise HasEvents()
+    record.rule = rule
+    return [0]
+
+
+def answer_compare(record, given):
+    """Call 23."""
+    check_bytes(given)
+    return same_or_first_otherwise(record, read_one_rule(given, record.names).allowed)
+
+
+def answer_now(record, given):
+    """Call 24."""
+    return state_behind(record, record.events)
+
+
+def answer_behind(record, given):
+    """Call 25."""
+    number = given[0]
+    check_how_many_events(number, record)
+    return state_behind(record, record.events[:number])
+
+
+def answer_opened(record, given):
+    """Call 26."""
+    return counted(unlockings(record.events))
+
+
 # By the calls' numbers.
 ANSWERERS = (
     answer_clear, answer_file, answer_look, answer_text, answer_event, answer_undo, answer_told,
     answer_may, answer_least, answer_forbidden, answer_locks, answer_keys, answer_scheme, answer_swings,
+    answer_power, answer_idle, answer_alike, answer_hinder, answer_without, answer_weights, answer_weigh,
+    answer_trade, answer_rule, answer_compare, answer_now, answer_behind, answer_opened,
 )
 
 

@@ -22,6 +22,11 @@ def has(company, officer):
     return company & POWERS[officer] > 0
 
 
+def size(company, officers):
+    """How many of so many officers are in the company."""
+    return len([officer for officer in range(officers) if has(company, officer)])
+
+
 def is_least(allowed, officers, company):
     """Whether the company may, but not without any one of its own."""
     if not allowed[company]:
@@ -68,9 +73,14 @@ def can_unlock(company, locks):
     return all([company & lock > 0 for lock in locks])
 
 
-def where_otherwise(allowed, locks):
-    """The companies, rising, that can unlock and mayn't, or may and can't."""
-    return [company for company in range(len(allowed)) if can_unlock(company, locks) != allowed[company]]
+def allowed_by_locks(locks, officers):
+    """What a scheme allows: for each company, whether it can unlock."""
+    return [can_unlock(company, locks) for company in all_companies(officers)]
+
+
+def where_otherwise(allowed, other):
+    """The companies, rising, that just one of the two allows."""
+    return [company for company in range(len(allowed)) if allowed[company] != other[company]]
 
 
 def swings(allowed, officer, company):

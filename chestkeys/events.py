@@ -93,6 +93,11 @@ def hall_behind(events):
     return hall
 
 
+def unlockings(events):
+    """The events by which it was unlocked, by their numbers, rising."""
+    return [number for number, event in enumerate(events) if event.kind == UNLOCK]
+
+
 def event_text(names, event):
     """The event as it's told in a text."""
     kind = event.kind

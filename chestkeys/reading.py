@@ -156,6 +156,14 @@ def read_file(text):
     return record
 
 
+def read_one_rule(text, names):
+    """The rule that a text tells over the officers of these names."""
+    reader = Reader(text)
+    rule = read_rule(reader, names, 0)
+    reader.finish()
+    return rule
+
+
 def read_one_event(text, record):
     """The event that a text tells, behind those of the record."""
     reader = Reader(text)

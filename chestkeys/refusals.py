@@ -38,10 +38,17 @@ class WrongList(Refusal):
 
 
 class NotThere(Refusal):
-    """There's no such company, or there aren't so many events."""
+    """There's no such company or officer, or there aren't so many events."""
 
     def __init__(self):
         Refusal.__init__(self, -5)
+
+
+class HasEvents(Refusal):
+    """There are events, so the rule must stay."""
+
+    def __init__(self):
+        Refusal.__init__(self, -6)
 
 
 class Fault(Refusal):

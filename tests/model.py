@@ -1,13 +1,17 @@
-"""A second, slow and plain telling of the calls 0 to 13, to hold the program against.
+"""A second, slow and plain telling of the calls, to hold the program against.
 
-Texts are read by a table of what can stand next, rules are trees, companies are sets of officers, and the
-least and greatest companies are sought among all subsets and supersets.
+Texts are read by a table of what can stand next, rules are trees, companies are sets of officers, the least
+and greatest companies are sought among all subsets and supersets, powers are counted order by order, and
+weights and trades are sought among all that there are.
 """
 
+import fractions
 import itertools
 import re
 
 KEPT = ("and", "or", "of", "anybody", "nobody")
+CALLS = ("clear file look text event undo told may least forbidden locks keys scheme swings power idle alike hinder "
+         "without weights weigh trade rule compare now behind opened").split()
 START = {"names": [], "tree": ("nobody",), "events": []}
 
 
@@ -97,7 +101,7 @@ class Table:
     def __init__(self, state, first):
         self.state = {"names": list(state["names"]), "tree": state["tree"], "events": list(state["events"])}
         self.next = first
-        self.alone = first == "event"
+        self.alone = first != "officers"
         self.trees, self.joins, self.partial = [], [], None
 
     def need(self, holds):
@@ -177,7 +181,7 @@ class Table:
             self.need(self.joins)
             self.joins.pop()
         else:
-            self.need(word == "\n" and "(" not in self.joins)
+            self.need(word == "\n" and "(" not in self.joins and not self.alone)
             self.end_rule()
             self.next = "event"
 
@@ -269,6 +273,35 @@ def locks(state):
     return [set(range(len(state["names"]))) - company for company in forbidden(state)]
 
 
+def weigh(company, weights):
+    return sum(weights[officer] for officer in company)
+
+
+def quota(state, weights):
+    """The quota of the weights, or None if they don't tell the rule."""
+    for company in least(state):
+        for other in forbidden(state):
+            if weigh(company, weights) <= weigh(other, weights):
+                return None
+    if not least(state):
+        return sum(weights) + 1
+    return min(weigh(company, weights) for company in least(state))
+
+
+def pairs(state, may):
+    """(how often each officer stands in the pair, the pair) for each pair of companies that may, or mayn't."""
+    found = [company for company in companies(state) if lets(state["tree"], company) == may]
+    return [([(n in one) + (n in other) for n in range(6)], (number_of(one), number_of(other)))
+            for k, one in enumerate(found) for other in found[k:]]
+
+
+def behind(state, events):
+    there, dead, stands = hall(events)
+    act = acting(there, stands)
+    return [number_of(there), number_of(dead), number_of(act), int(lets(state["tree"], act)),
+            sum(event[0] == "open" for event in events)]
+
+
 def counted(numbers):
     return [len(numbers)] + list(numbers)
 
@@ -280,8 +313,7 @@ class Model:
         self.state = START
 
     def answer(self, number, given):
-        names = "clear file look text event undo told may least forbidden locks keys scheme swings".split()
-        return getattr(self, "call_" + names[number])(given)
+        return getattr(self, "call_" + CALLS[number])(given)
 
     def call_clear(self, given):
         self.state = START
@@ -371,3 +403,102 @@ class Model:
             without = [company for company in companies(self.state) if n not in company]
             found.append(sum(lets(tree, company | {n}) > lets(tree, company) for company in without))
         return counted(found)
+
+    def call_power(self, given):
+        count = len(self.state["names"])
+        swung = [0] * count
+        orders = list(itertools.permutations(range(count)))
+        for order in orders:
+            for k, officer in enumerate(order):
+                if lets(self.state["tree"], set(order[:k + 1])) and not lets(self.state["tree"], set(order[:k])):
+                    swung[officer] += 1
+        powers = [fractions.Fraction(one, len(orders)) for one in swung]
+        return [count] + [number for power in powers for number in (power.numerator, power.denominator)]
+
+    def call_idle(self, given):
+        swings = self.call_swings([])[1:]
+        return counted([n for n, count in enumerate(swings) if not count])
+
+    def call_alike(self, given):
+        for officer in given:
+            if officer not in range(6):
+                return [-3]
+            if officer not in range(len(self.state["names"])):
+                return [-5]
+        a, b = given
+        for company in companies(self.state):
+            other = {b if officer == a else a if officer == b else officer for officer in company}
+            if lets(self.state["tree"], company) != lets(self.state["tree"], other):
+                return [0]
+        return [1]
+
+    def call_hinder(self, given):
+        everybody = set(range(len(self.state["names"])))
+        found = [company for company in companies(self.state) if not lets(self.state["tree"], everybody - company)]
+        return counted([number_of(company) for company in found if not any(other < company for other in found)])
+
+    def call_without(self, given):
+        refused = self.call_may(given)
+        if refused[0] < 0:
+            return refused
+        return counted([number for number in self.call_least([])[1:] if not number & given[0]])
+
+    def call_weights(self, given):
+        if given[0] not in range(6):
+            return [-3]
+        for weights in itertools.product(range(given[0] + 1), repeat=len(self.state["names"])):
+            found = quota(self.state, weights)
+            if found is not None:
+                return [1, found] + counted(weights)
+        return [0]
+
+    def call_weigh(self, given):
+        if len(given) != len(self.state["names"]) or not set(given) <= set(range(1001)):
+            return [-4]
+        found = quota(self.state, given)
+        return [0] if found is None else [1, found]
+
+    def call_trade(self, given):
+        mayn_t = pairs(self.state, False)
+        for stands, pair in pairs(self.state, True):
+            for others, other in mayn_t:
+                if stands == others:
+                    return [1] + list(pair + other)
+        return [0]
+
+    def read_rule(self, given):
+        """(refusal or None, the state with the rule that the text tells)"""
+        text = self.text_of(given)
+        if text is None:
+            return -1, None
+        place, state = read(text, self.state, "one")
+        return (None, state) if place is None else (-1000 - place, None)
+
+    def call_rule(self, given):
+        refused, state = self.read_rule(given)
+        if refused or self.state["events"]:
+            return [refused or -6]
+        self.state = state
+        return [0]
+
+    def call_compare(self, given):
+        refused, state = self.read_rule(given)
+        if refused:
+            return [refused]
+        for company in companies(state):
+            if lets(state["tree"], company) != lets(self.state["tree"], company):
+                return [0, number_of(company)]
+        return [1]
+
+    def call_now(self, given):
+        return behind(self.state, self.state["events"])
+
+    def call_behind(self, given):
+        if given[0] not in range(61):
+            return [-3]
+        if given[0] > len(self.state["events"]):
+            return [-5]
+        return behind(self.state, self.state["events"][:given[0]])
+
+    def call_opened(self, given):
+        return counted([k for k, event in enumerate(self.state["events"]) if event == ("open",)])

@@ -3,6 +3,10 @@
 from chestkeys.chest import answers
 
 CLEAR, TEXT, TOLD, LEAST, FORBIDDEN, LOCKS, KEYS, SWINGS = [0], [3], [6], [8], [9], [10], [11], [13]
+POWER, IDLE, HINDER, TRADE, NOW, OPENED = [14], [15], [17], [21], [24], [26]
+LEAST_NUMBER, GREATEST_NUMBER = -2 ** 63, 2 ** 63 - 1
+WITH_TEXT = (1, 2, 4, 22, 23)
+WITH_LIST = WITH_TEXT + (12, 20)
 
 
 def listed(number, numbers):
@@ -36,6 +40,34 @@ def may(company):
 
 def scheme(locks):
     return listed(12, locks)
+
+
+def alike(a, b):
+    return [16, a, b]
+
+
+def without(company):
+    return [18, company]
+
+
+def weights(m):
+    return [19, m]
+
+
+def weigh(numbers):
+    return listed(20, numbers)
+
+
+def rule(text):
+    return listed(22, as_bytes(text))
+
+
+def compare(text):
+    return listed(23, as_bytes(text))
+
+
+def behind(k):
+    return [25, k]
 
 
 def apart(numbers):
@@ -80,3 +112,25 @@ def ruled(names, rule):
 def officers(count):
     """So many names."""
     return " ".join("abcdef"[:count])
+
+
+def mays_behind(*calls):
+    """The companies that may behind these calls."""
+    count = last(*calls, TOLD)[0]
+    found = run(*calls, *[may(company) for company in range(2 ** count)])[len(calls):]
+    return [company for company, answer in enumerate(found) if answer == [1]]
+
+
+def falling_sets(count):
+    """All sets of companies of so many officers, none of which is in another one: the least companies of rules."""
+    found = [()]
+    for company in range(2 ** count):
+        found += [some + (company,) for some in found
+                  if all(other & company not in (other, company) for other in some)]
+    return found
+
+
+def rule_of(least):
+    """A rule with these least companies."""
+    parts = [" and ".join("abcdef"[n] for n in range(6) if company >> n & 1) or "anybody" for company in least]
+    return " or ".join(parts) or "nobody"

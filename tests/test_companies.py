@@ -3,28 +3,13 @@
 import itertools
 import unittest
 
-from support import FORBIDDEN, KEYS, LEAST, LOCKS, SWINGS, TOLD, last, may, officers, ruled, run, scheme
+from support import (
+    FORBIDDEN, KEYS, LEAST, LOCKS, SWINGS, TOLD, falling_sets, last, mays_behind, officers, rule, rule_of, ruled, run,
+    scheme)
 
 
-def mays(names, rule):
-    count = 2 ** len(names.split())
-    return [company for company, answer in enumerate(run(ruled(names, rule), *[may(c) for c in range(count)])[1:])
-            if answer == [1]]
-
-
-def falling_sets(count):
-    """All sets of companies of so many officers, none of which is in another one: the least companies of rules."""
-    found = [()]
-    for company in range(2 ** count):
-        found += [some + (company,) for some in found
-                  if all(other & company not in (other, company) for other in some)]
-    return found
-
-
-def rule_of(least):
-    """A rule with these least companies."""
-    parts = [" and ".join("abcdef"[n] for n in range(6) if company >> n & 1) or "anybody" for company in least]
-    return " or ".join(parts) or "nobody"
+def mays(names, text):
+    return mays_behind(ruled(names, text))
 
 
 class May(unittest.TestCase):
@@ -140,13 +125,14 @@ class LocksAndKeys(unittest.TestCase):
         self.assertEqual(answers[1], [6] + [10] * 6)
 
     def test_by_the_locks_just_those_open_who_may(self):
-        for rule in ("a", "a and b or c and d or e and f", "3 of ( a b c d e f )", "2 of ( a b c ) and 2 of ( d e f )",
+        for text in ("a", "a and b or c and d or e and f", "3 of ( a b c d e f )", "2 of ( a b c ) and 2 of ( d e f )",
                      "( a or b ) and ( c or d ) and ( e or f )", "anybody", "nobody", "a and 2 of ( b c d e f ) or f"):
-            chest = ruled(officers(6), rule)
-            locks = last(chest, LOCKS)[1:]
-            opened = [c for c in range(64) if all(lock & c for lock in locks)]
-            self.assertEqual(opened, mays(officers(6), rule))
-            self.assertEqual(last(chest, scheme(locks)), [1])
+            for chest in ([ruled(officers(6), text)], [ruled(officers(6), "a and f or c"), rule(text)]):
+                locks = last(*chest, LOCKS)[1:]
+                opened = [c for c in range(64) if all(lock & c for lock in locks)]
+                self.assertEqual(opened, mays_behind(*chest))
+                self.assertEqual(opened, mays(officers(6), text))
+                self.assertEqual(last(*chest, scheme(locks)), [1])
 
     def test_no_scheme_has_fewer_locks_and_none_with_as_many_has_others(self):
         for count in range(5):
@@ -160,6 +146,7 @@ class LocksAndKeys(unittest.TestCase):
             for least in rules:
                 names = officers(count)
                 locks = last(ruled(names, rule_of(least)), LOCKS)[1:]
+                self.assertEqual(last(ruled(names, "nobody"), rule(rule_of(least)), LOCKS)[1:], locks)
                 opened = tuple(c for c in range(2 ** count) if any(part & c == part for part in least))
                 others = [some for some in schemes[opened] if len(some) <= len(locks)]
                 self.assertEqual(others, [tuple(sorted(locks))])
